@@ -1,0 +1,1 @@
+"""Tandems: servers in a line, exchanged so that every job leaves as before."""
