@@ -1,6 +1,6 @@
 """Lines of servers with their times for jobs, and when the jobs leave the servers."""
 
-from tandems.errors import BadArrivals, BadJob, BadLine, BadServer, BadText
+from tandems.errors import BadArrivals, BadJob, BadLine, BadServer, BadText, Unlike
 from tandems.ratios import Ratio, as_ratio, is_int, is_number, larger, read_ratio, total
 
 MOST_SERVERS = 4
@@ -100,12 +100,25 @@ def is_index(value, size):
     return is_int(value) and 0 <= value < size
 
 
+def is_place(line, value):
+    """Whether any value is a tuple of a server and a job of a line."""
+    if not isinstance(value, tuple) or len(value) != 2:
+        return False
+    return is_index(value[0], line.servers()) and is_index(value[1], line.jobs())
+
+
 def check_stretch(line, first, last):
     """Raise BadJob for what is no job of a line, or for a last one ahead of the first one."""
     if not is_index(first, line.jobs()):
         raise BadJob(first)
     if not is_index(last, line.jobs()) or last < first:
         raise BadJob(last)
+
+
+def check_jobs(one, other):
+    """Raise Unlike for two lines that have not equally many jobs."""
+    if one.jobs() != other.jobs():
+        raise Unlike()
 
 
 def leavings(line, arrivals):

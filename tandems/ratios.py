@@ -120,3 +120,8 @@ def total(numbers):
 def larger(one, other):
     """The greater one of two Ratios."""
     return other if one < other else one
+
+
+def smaller(one, other):
+    """The lesser one of two Ratios."""
+    return one if one < other else other

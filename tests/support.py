@@ -5,6 +5,7 @@ import importlib
 from fractions import Fraction
 
 from tandems import errors
+from tandems.lines import Line
 from tandems.ratios import Ratio
 
 
@@ -24,6 +25,17 @@ def odd_values():
 def values_but(*kinds):
     """The odd values that are of none of these very classes."""
     return [value for value in odd_values() if value.__class__ not in kinds]
+
+
+def strange_values():
+    """Values of further kinds, which only what judges a value may be passed."""
+    knot = []
+    knot.append(knot)
+    return [
+        0.0, 1.5, float("nan"), float("inf"), 1j, b"", b"\x00", object(), Ratio, odd_values, lambda: 0, range(2), {0},
+        frozenset([0]), iter([0]), [0.0], [float("nan")], knot, (knot, knot), [[], [knot]], {0: 0}, Line([[0]]),
+        [Line([[0]])], errors.BadJob(0), NotImplemented, ...,
+    ]
 
 
 def check_raises(case, kind, given, act):

@@ -1,6 +1,7 @@
 """The form of the package's files, as far as a short check can tell it."""
 
 import ast
+import builtins
 import pathlib
 import unittest
 
@@ -45,6 +46,32 @@ class Form(unittest.TestCase):
                 if isinstance(node, ast.ImportFrom):
                     self.assertEqual(node.level, 0, path)
                     self.assertIn(node.module.split(".")[0], LIBRARY | {"tandems"}, path)
+
+    def test_local_names(self):
+        for path in files():
+            taken = set(dir(builtins))
+            for node in nodes(path):
+                if isinstance(node, ast.ImportFrom):
+                    taken.update([name.name for name in node.names])
+                elif isinstance(node, ast.ClassDef):
+                    taken.add(node.name)
+            for node in nodes(path):
+                if isinstance(node, ast.arg):
+                    self.assertNotIn(node.arg, taken, path)
+                elif isinstance(node, ast.Name) and isinstance(node.ctx, ast.Store):
+                    self.assertNotIn(node.id, taken, path)
+
+    def test_no_generators_and_lambdas(self):
+        for path in files():
+            for node in nodes(path):
+                self.assertNotIsInstance(node, (ast.GeneratorExp, ast.Lambda, ast.Yield), path)
+
+    def test_nothing_is_put_in_order(self):
+        # Beside a class with an order these builtins take no list of its objects.
+        for path in files():
+            for node in nodes(path):
+                if isinstance(node, ast.Call) and isinstance(node.func, ast.Name):
+                    self.assertNotIn(node.func.id, ("sorted", "min", "max", "sum"), path)
 
     def test_no_floats(self):
         for path in files():

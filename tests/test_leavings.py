@@ -6,21 +6,11 @@ import unittest
 from tandems.errors import BadArrivals
 from tandems.lines import Line, ends, leavings
 from tandems.ratios import Ratio
+from tests.oracles import ways
 from tests.support import check_raises, check_texts, fraction, fractions, odd_values, values_but
 
 LONG = 10 ** 40 - 1
 HALF = Ratio(1, 2)
-
-
-def ways(start, end):
-    """All ways from a place to another one, server and job never falling."""
-    if start == end:
-        return [[end]]
-    found = []
-    for step in ((start[0] + 1, start[1]), (start[0], start[1] + 1)):
-        if step[0] <= end[0] and step[1] <= end[1]:
-            found.extend([[start] + way for way in ways(step, end)])
-    return found
 
 
 def by_ways(rows, arrivals):
