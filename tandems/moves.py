@@ -35,14 +35,13 @@ def brackets(line, server):
 def lone(line, server):
     """The lone times of a server and of the next one, by jobs; raises BadServer."""
     check_server(line, server)
-    upper, lower, _ = brackets(line, server)
-    return upper, lower
+    return brackets(line, server)[:2]
 
 
 def pairs(line, server):
     """How much of the next server's time for a job is paired with a later one; raises BadServer."""
     check_server(line, server)
-    _, _, paired = brackets(line, server)
+    paired = brackets(line, server)[2]
     jobs = range(line.jobs())
     return [(job, later, paired[job, later]) for job in jobs for later in jobs if (job, later) in paired]
 
