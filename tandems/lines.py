@@ -50,8 +50,7 @@ class Line:
         """The time of a server for a job; raises BadServer and BadJob."""
         if not is_index(server, self.servers()):
             raise BadServer(server)
-        if not is_index(job, self.jobs()):
-            raise BadJob(job)
+        check_job(self, job)
         return self._rows[server][job]
 
     def text(self):
@@ -107,10 +106,20 @@ def is_place(line, value):
     return is_index(value[0], line.servers()) and is_index(value[1], line.jobs())
 
 
+def places(line):
+    """All places of a line, ascending."""
+    return [(server, job) for server in range(line.servers()) for job in range(line.jobs())]
+
+
+def check_job(line, job):
+    """Raise BadJob for what is no job of a line."""
+    if not is_index(job, line.jobs()):
+        raise BadJob(job)
+
+
 def check_stretch(line, first, last):
     """Raise BadJob for what is no job of a line, or for a last one ahead of the first one."""
-    if not is_index(first, line.jobs()):
-        raise BadJob(first)
+    check_job(line, first)
     if not is_index(last, line.jobs()) or last < first:
         raise BadJob(last)
 
@@ -121,10 +130,15 @@ def check_jobs(one, other):
         raise Unlike()
 
 
-def leavings(line, arrivals):
-    """When each job leaves each server, a list for each server; raises BadArrivals."""
+def check_arrivals(line, arrivals):
+    """Raise BadArrivals for what is no list of a number for each job."""
     if not is_numbers(arrivals, line.jobs()):
         raise BadArrivals(arrivals)
+
+
+def leavings(line, arrivals):
+    """When each job leaves each server, a list for each server; raises BadArrivals."""
+    check_arrivals(line, arrivals)
     found = []
     coming = [as_ratio(arrival) for arrival in arrivals]
     for times in line.rows():

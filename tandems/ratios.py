@@ -125,3 +125,11 @@ def larger(one, other):
 def smaller(one, other):
     """The lesser one of two Ratios."""
     return one if one < other else other
+
+
+def least(numbers):
+    """The least one of a list of Ratios that is not empty."""
+    found = numbers[0]
+    for number in numbers:
+        found = smaller(found, number)
+    return found

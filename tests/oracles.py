@@ -129,3 +129,62 @@ def ratios(numbers):
 def ratio_rows(rows):
     """Lists of Fractions as lists of numbers for the package."""
     return [ratios(row) for row in rows]
+
+
+def load_by_ways(rows, first, last, count):
+    """The greatest sum of the places of so many ways between two jobs, by all choices of ways [6]."""
+    times = {(server, job): rows[server][job] for server in range(len(rows)) for job in range(len(rows[0]))}
+    unions = {frozenset()}
+    for _ in range(count):
+        unions = {union | set(way) for union in unions for way in ways_of_jobs(len(rows), first, last)}
+    return max([sum([times[place] for place in union]) for union in unions])
+
+
+def shape_by_ways(rows, first, last):
+    """What one way has, two ways have more than one, and so on, as long as there are servers [6]."""
+    loads = [0] + [load_by_ways(rows, first, last, count) for count in range(1, len(rows) + 1)]
+    return [more - less for less, more in zip(loads, loads[1:])]
+
+
+def triangle_by_ways(rows):
+    """The shapes of the first job, the first two jobs, and so on [6]."""
+    return [shape_by_ways(rows, 0, last) for last in range(len(rows[0]))]
+
+
+def push(rows):
+    """The rows behind moves down of all there is room for, from the last servers on, until there is none."""
+    moved = True
+    while moved:
+        moved = False
+        for server in reversed(range(len(rows) - 1)):
+            room = sum(bracket(rows[server], rows[server + 1])[0])
+            if room > 0:
+                rows = move(rows, server, room)
+                moved = True
+    return rows
+
+
+def shape_by_push(rows, first, last):
+    """The totals of the pushed line of some jobs, from the last server on."""
+    return [sum(row) for row in push([row[first:last + 1] for row in rows])][::-1]
+
+
+def triangle_by_push(rows):
+    """The shapes of the first job, the first two jobs, and so on, likewise."""
+    return [shape_by_push(rows, 0, last) for last in range(len(rows[0]))]
+
+
+def cover_sum(rows, first, last, count, cover):
+    """The sum of a cover for so many ways, or None for a tuple that is no cover of these jobs [51]."""
+    height, heights = cover
+    found = height * count
+    if height < 0 or [len(row) for row in heights] != [last - first + 1] * len(rows):
+        return None
+    for server, row in enumerate(heights):
+        for index, (before, behind) in enumerate(row):
+            ahead = [row[index - 1][1]] if index else []
+            ahead += [heights[server - 1][index][1]] if server else []
+            if not 0 <= before <= behind <= height or [other for other in ahead if other > before]:
+                return None
+            found += max(0, rows[server][first + index] - (behind - before))
+    return found

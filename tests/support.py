@@ -104,3 +104,27 @@ def check_example_raises(case, asked, names, told):
         eval(asked, names)
     case.assertIs(type(caught.exception), type(expected), asked)
     case.assertEqual(vars(caught.exception), vars(expected), asked)
+
+
+def seen(desk):
+    """All that a desk tells, to be compared with what it tells at another time."""
+    line = desk.line()
+    return (
+        line.text(), [number.text() for number in desk.arrivals()], [number.text() for number in desk.ends()],
+        [number.text() for number in desk.rooms()], fractions(desk.triangle()), desk.is_steady(), len(desk),
+        desk.text(), [desk.needed(job) for job in range(line.jobs())],
+    )
+
+
+def row_of_deeds(desk):
+    """What a desk tells now and after each undo, and after each redo: brings it to its end, too."""
+    told = [seen(desk)]
+    while len(desk):
+        desk.undo()
+        told.append(seen(desk))
+    while True:
+        try:
+            desk.redo()
+        except errors.NothingToRedo:
+            return told
+        told.append(seen(desk))
