@@ -17,7 +17,12 @@ def leading(one, other):
     """Moves that lead from the one line to the other, or None if none do; raises Unlike."""
     if not are_kin(one, other):
         return None
-    return pushing(one) + [(server, -amount) for server, amount in pushing(other)[::-1]]
+    down, up = pushing(one), pushing(other)
+    # Where both end with the same moves, they have met before these, and need not go further.
+    while down and up and down[-1] == up[-1]:
+        down.pop()
+        up.pop()
+    return down + [(server, -amount) for server, amount in up[::-1]]
 
 
 def unlike_load(one, other):

@@ -9,6 +9,7 @@ from tandems.kin import are_kin, is_unlike_load, leading, unlike_load
 from tandems.lines import Line
 from tandems.moves import moved_down, moved_up
 from tandems.ratios import Ratio
+from tandems.shapes import pushed, pushing
 from tandems.turns import risen, turned
 from tandems.ways import alike
 from tests.draws import walked
@@ -109,6 +110,12 @@ class Kin(unittest.TestCase):
         for line in many_lines(94, 1):
             self.check(line, line, True)
             self.check(line, Line(line.rows()), True)
+            self.assertEqual(leading(line, line), [])
+
+    def test_no_moves_in_vain(self):
+        for line in many_lines(98, 1):
+            self.assertEqual(leading(line, pushed(line)), pushing(line))
+            self.assertEqual(len(leading(pushed(line), line)), len(pushing(line)))
 
     def test_a_little_unlike(self):
         for line in many_lines(95, 1):
